@@ -1,0 +1,1 @@
+"""Tallyhull: whole numbers for all right sides at once."""

@@ -1,0 +1,213 @@
+"""The form of the package: the rules of LANGUAGE.md that can be read off its code."""
+
+import ast
+import builtins
+import io
+import re
+import tokenize
+import unittest
+import warnings
+from pathlib import Path
+
+FOLDER = Path(__file__).resolve().parent.parent / "tallyhull"
+FILES = sorted(FOLDER.glob("*.py"))
+
+INTERFACE = {
+    "matrices": [
+        "is_matrix(matrix)", "check_matrix(matrix)", "is_side(matrix, side)",
+        "check_side(matrix, side)", "is_vector(matrix, vector)", "check_vector(matrix, vector)",
+        "is_cost(matrix, cost)", "check_cost(matrix, cost)", "columns(matrix)",
+        "image(matrix, vector)", "is_solution(matrix, side, vector)",
+        "price(matrix, cost, vector)", "comes_before(matrix, cost, one, other)",
+        "is_weight(matrix, row)", "is_ring(matrix, vector)", "pointed_answer(matrix)",
+        "is_pointed_answer(matrix, answer)", "is_pointed(matrix)", "check_pointed(matrix)"],
+    "hermite": [
+        "stairs(vectors)", "rank(vectors)", "is_stairs(vectors)", "coordinates(vectors, vector)",
+        "orthogonal(vectors, many)"],
+    "lattices": [
+        "side_basis(matrix)", "side_index(matrix)", "null_basis(matrix)",
+        "null_coordinates(matrix, vector)", "lattice_answer(matrix, side)",
+        "is_rest_paper(matrix, side, row, m)", "is_lattice_answer(matrix, side, answer)"],
+    "cones": [
+        "equations(matrix)", "fixed_places(matrix)", "rank_of(matrix)", "facets(matrix)",
+        "faces(matrix)", "is_face(matrix, columns)", "rays(matrix)", "is_in_cone(matrix, side)",
+        "face_of(matrix, side)"],
+    "farkas": [
+        "farkas_paper(matrix, side)", "is_farkas_paper(matrix, side, row)", "bases(matrix)",
+        "first_base(matrix, side)", "fraction_solution(matrix, side)",
+        "is_fraction_solution(matrix, side, numbers)"],
+}
+
+BUILTINS = set("""len range enumerate zip min max sum abs sorted reversed int str bool bytes list
+    tuple dict set isinstance ord any all divmod map ValueError super""".split())
+METHODS = set("""append clear copy count endswith extend find get index insert isalnum isalpha
+    isdigit items join keys lower lstrip pop remove replace reverse rfind rstrip setdefault split
+    splitlines startswith strip update upper values zfill bit_length __init__""".split())
+LIBRARY = {"math": {"gcd", "lcm", "isqrt"}, "itertools": {"combinations", "product"}}
+BARRED = set("""mro elements open input law register type typing enum Enum Flag Generic Protocol
+    ABC namedtuple dataclass overload contextmanager eval exec global float complex round hash
+    print""".split())
+STATEMENTS = (ast.FunctionDef, ast.ClassDef, ast.Import, ast.ImportFrom, ast.Assign, ast.Expr)
+
+
+def tree_of(path):
+    return ast.parse(path.read_text(encoding="utf-8"))
+
+
+PARSED = [(path, tree_of(path)) for path in FILES]
+
+
+def functions_in(tree):
+    return [node for node in ast.walk(tree) if isinstance(node, ast.FunctionDef)]
+
+
+def bound_in(function):
+    """The parameters and local variables of a function."""
+    names = {argument.arg for argument in ast.walk(function) if isinstance(argument, ast.arg)}
+    return names | {node.id for node in ast.walk(function)
+                    if isinstance(node, ast.Name) and isinstance(node.ctx, ast.Store)}
+
+
+class Form(unittest.TestCase):
+
+    def test_the_folder(self):
+        others = [path.name for path in FOLDER.iterdir()
+                  if path.suffix != ".py" and path.name != "__pycache__"]
+        self.assertEqual(others, [])
+        self.assertIn("__init__.py", [path.name for path in FILES])
+        for path in FILES:
+            self.assertRegex(path.stem, r"^[a-z][a-z0-9_]*$|^__init__$")
+
+    def test_lines_and_signs(self):
+        for path in FILES:
+            text = path.read_text(encoding="utf-8")
+            self.assertRegex(text, r"\A[ -~\n]*\Z", path.name)
+            lines = text.splitlines()
+            self.assertLessEqual(len(lines), 399, path.name)
+            self.assertLessEqual(max(map(len, lines)), 120, path.name)
+            with warnings.catch_warnings():
+                warnings.simplefilter("error")
+                compile(text, str(path), "exec")
+
+    def test_functions_are_short(self):
+        for path, tree in PARSED:
+            with self.subTest(path.name):
+                for function in functions_in(tree):
+                    size = function.end_lineno - function.lineno + 1
+                    self.assertLessEqual(size, 40, function.name)
+                    self.assertEqual(function.decorator_list, [])
+
+    def test_module_level(self):
+        for path, tree in PARSED:
+            with self.subTest(path.name):
+                for node in tree.body:
+                    self.assertIsInstance(node, STATEMENTS)
+                    if isinstance(node, ast.Assign):
+                        self.assertEqual(len(node.targets), 1)
+                        ast.literal_eval(node.value)
+                    if isinstance(node, ast.Expr):
+                        self.assertIs(node, tree.body[0])
+
+    def test_imports(self):
+        defined = {path.stem: {node.name for node in tree_of(path).body
+                               if isinstance(node, (ast.FunctionDef, ast.ClassDef))}
+                   for path in FILES}
+        for path, tree in PARSED:
+            with self.subTest(path.name):
+                for node in ast.walk(tree):
+                    self.assertNotIsInstance(node, ast.Import)
+                    if not isinstance(node, ast.ImportFrom):
+                        continue
+                    self.assertIn(node, tree.body)
+                    self.assertEqual(node.level, 0)
+                    for alias in node.names:
+                        self.assertIsNone(alias.asname)
+                        if node.module in LIBRARY:
+                            self.assertIn(alias.name, LIBRARY[node.module])
+                        else:
+                            package, module = node.module.split(".")
+                            self.assertEqual(package, "tallyhull")
+                            self.assertIn(alias.name, defined[module])
+
+    def test_no_circle_of_imports(self):
+        wanted = {path.stem: {node.module.split(".")[-1] for node in tree_of(path).body
+                              if isinstance(node, ast.ImportFrom)
+                              and node.module.startswith("tallyhull")} for path in FILES}
+        while wanted:
+            ready = [name for name, needs in wanted.items() if not needs & set(wanted)]
+            self.assertTrue(ready, sorted(wanted))
+            for name in ready:
+                del wanted[name]
+
+    def test_what_is_imported_is_used_and_not_covered(self):
+        for path, tree in PARSED:
+            with self.subTest(path.name):
+                imported = [alias.name for node in tree.body if isinstance(node, ast.ImportFrom)
+                            for alias in node.names]
+                self.assertEqual(len(imported), len(set(imported)))
+                used = {node.id for node in ast.walk(tree)
+                        if isinstance(node, ast.Name) and isinstance(node.ctx, ast.Load)}
+                classes = {node.name for node in tree.body if isinstance(node, ast.ClassDef)}
+                self.assertEqual(set(imported) - used, set())
+                for function in functions_in(tree):
+                    self.assertEqual(bound_in(function) & (set(imported) | classes), set())
+
+    def test_builtins(self):
+        every = set(dir(builtins))
+        for path, tree in PARSED:
+            with self.subTest(path.name):
+                for node in ast.walk(tree):
+                    if isinstance(node, ast.Name) and node.id in every:
+                        self.assertIn(node.id, BUILTINS)
+                        self.assertIsInstance(node.ctx, ast.Load)
+                    if isinstance(node, (ast.FunctionDef, ast.ClassDef)):
+                        self.assertNotIn(node.name, every)
+                    if isinstance(node, ast.arg):
+                        self.assertNotIn(node.arg, every)
+
+    def test_methods_numbers_and_signs(self):
+        for path, tree in PARSED:
+            with self.subTest(path.name):
+                for node in ast.walk(tree):
+                    if isinstance(node, ast.Call) and isinstance(node.func, ast.Attribute):
+                        self.assertIn(node.func.attr, METHODS)
+                    if isinstance(node, ast.Constant):
+                        self.assertNotIsInstance(node.value, (float, complex))
+                        self.assertNotIn("%", str(node.value))
+                    self.assertNotIsInstance(node, (ast.Div, ast.AsyncFunctionDef, ast.Global, ast.Await,
+                                                    ast.Set, ast.SetComp, ast.AnnAssign))
+                    if isinstance(node, ast.Compare):
+                        for sign, other in zip(node.ops, node.comparators):
+                            if isinstance(sign, (ast.Is, ast.IsNot)):
+                                self.assertIn(getattr(other, "value", 0), (None, True, False))
+
+    def test_barred_words(self):
+        for path in FILES:
+            text = path.read_text(encoding="utf-8")
+            for word in tokenize.generate_tokens(io.StringIO(text).readline):
+                if word.type == tokenize.NAME:
+                    self.assertNotIn(word.string, BARRED, path.name)
+                    self.assertFalse(re.match(r"_wall|_pe_|_cold|_outside|_record", word.string))
+
+    def test_docstrings_and_annotations(self):
+        for path, tree in PARSED:
+            with self.subTest(path.name):
+                self.assertIsNotNone(ast.get_docstring(tree))
+                for function in functions_in(tree):
+                    self.assertIsNone(function.returns)
+                    if function.name != "__init__":
+                        self.assertIsNotNone(ast.get_docstring(function), function.name)
+
+    def test_the_interface(self):
+        for module, wanted in INTERFACE.items():
+            found = {node.name: ast.unparse(node.args)
+                     for node in tree_of(FOLDER / f"{module}.py").body
+                     if isinstance(node, ast.FunctionDef)}
+            for head in wanted:
+                name, arguments = head[:-1].split("(")
+                with self.subTest(module, name=name):
+                    self.assertEqual(found.get(name), arguments)
+
+
+if __name__ == "__main__":
+    unittest.main()
