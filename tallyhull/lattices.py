@@ -1,7 +1,7 @@
 """The lattice of the columns of a matrix, and that of the vectors with the image 0."""
 
 from tallyhull.linear import columns_of, coordinates_of, dot, equations_of, image_of
-from tallyhull.linear import less, marked, null_of, primitive, stairs_of, step_of
+from tallyhull.linear import less, marked, null_of, primitive, stairs_of, step_of, volume_of
 from tallyhull.matrices import check_matrix, check_side, check_vector, is_vector
 
 
@@ -16,10 +16,7 @@ def side_index(matrix):
     basis = side_basis(matrix)
     if len(basis) < len(matrix):
         return None
-    index = 1
-    for row in basis:
-        index = index * row[step_of(row)]
-    return index
+    return volume_of(basis)
 
 
 def null_basis(matrix):
@@ -53,9 +50,7 @@ def rest_at(basis, at, many):
 
     Its products with the other rows are 0, and with this one m.
     """
-    m = 1
-    for row in basis[:at + 1]:
-        m = m * row[step_of(row)]
+    m = volume_of(basis[:at + 1])
     entries = {step_of(basis[at]): m // basis[at][step_of(basis[at])]}
     for row in reversed(basis[:at]):
         place = step_of(row)

@@ -37,6 +37,16 @@ def image_of(matrix, vector):
     return tuple(dot(row, vector) for row in matrix)
 
 
+def is_before(cost, one, other):
+    """Return whether the first vector comes before the other one."""
+    return (dot(cost, one), one) < (dot(cost, other), other)
+
+
+def fits(one, other):
+    """Return whether no entry of the first row is greater than that of the other one."""
+    return all(a <= b for a, b in zip(one, other))
+
+
 def step_of(row):
     """Return the index of the first entry that is not 0, or None."""
     for place, entry in enumerate(row):
@@ -94,6 +104,14 @@ def stairs_of(vectors, many):
     return tuple(found)
 
 
+def volume_of(rows):
+    """Return the product of the entries at the steps of rows in stairs form."""
+    volume = 1
+    for row in rows:
+        volume = volume * row[step_of(row)]
+    return volume
+
+
 def rank_among(vectors, many):
     """Return the rank of a list of tuples of so many integers."""
     return len(stairs_of(vectors, many))
@@ -111,6 +129,16 @@ def null_of(vectors, many):
     width = len(rows)
     found = stairs_of(marked(rows, many), width + many)
     return tuple(row[width:] for row in found if not any(row[:width]))
+
+
+def lone_at(matrix, places):
+    """Return the null vector that all those at these places are multiples of, or None."""
+    rows = [tuple(row[k] for k in places) for row in matrix]
+    form = null_of(rows, len(places))
+    if len(form) != 1:
+        return None
+    entries = dict(zip(places, form[0]))
+    return tuple(entries.get(k, 0) for k in range(len(matrix[0])))
 
 
 def coordinates_of(rows, vector):

@@ -3,7 +3,7 @@
 from itertools import combinations
 
 from tallyhull.errors import NotCost, NotMatrix, NotPointed, NotSide, NotVector
-from tallyhull.linear import columns_of, dot, facets_of, image_of, null_of, primitive
+from tallyhull.linear import columns_of, dot, facets_of, image_of, is_before, lone_at, primitive
 
 MOST_ROWS = 3
 MOST_COLUMNS = 6
@@ -107,7 +107,7 @@ def comes_before(matrix, cost, one, other):
     check_cost(matrix, cost)
     check_vector(matrix, one)
     check_vector(matrix, other)
-    return (dot(cost, one), one) < (dot(cost, other), other)
+    return is_before(cost, one, other)
 
 
 def is_weight(matrix, row):
@@ -137,13 +137,11 @@ def found_weight(matrix):
 
 
 def ring_at(matrix, places):
-    """Return a ring whose entries other than 0 are at just these places, or None."""
-    rows = [tuple(row[k] for k in places) for row in matrix]
-    form = null_of(rows, len(places))
-    if len(form) != 1 or min(form[0]) <= 0:
+    """Return a ring that all null vectors at these places are multiples of, or None."""
+    lone = lone_at(matrix, places)
+    if lone is None or min(lone) < 0:
         return None
-    entries = dict(zip(places, form[0]))
-    return tuple(entries.get(k, 0) for k in range(len(matrix[0])))
+    return lone
 
 
 def found_ring(matrix):

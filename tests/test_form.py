@@ -36,6 +36,30 @@ INTERFACE = {
         "farkas_paper(matrix, side)", "is_farkas_paper(matrix, side, row)", "bases(matrix)",
         "first_base(matrix, side)", "fraction_solution(matrix, side)",
         "is_fraction_solution(matrix, side, numbers)"],
+    "signs": [
+        "is_below(one, other)", "parts(vector)", "opposite(vector)", "headed(vector)",
+        "support(vector)", "down(vectors, vector)"],
+    "graver": [
+        "graver_list(matrix)", "is_dependence(matrix, vector)",
+        "is_graver_paper(matrix, vectors)", "in_graver_list(matrix, vector)", "circuits(matrix)",
+        "sum_of(matrix, vector)", "walk(matrix, one, other)"],
+    "moves": [
+        "is_move(matrix, cost, move)", "check_moves(matrix, cost, moves)",
+        "move_of(matrix, cost, vector)", "stands(matrix, cost, move, vector)",
+        "led(matrix, cost, move, vector)", "go_down(matrix, cost, moves, vector)",
+        "walked(matrix, cost, moves, vector, chain)"],
+    "meetings": [
+        "meetings(matrix, cost, moves)", "is_good(matrix, cost, moves, i, j)",
+        "bad_meeting(matrix, cost, moves)", "walk_between(matrix, cost, moves, one, other)",
+        "connects(matrix, cost, moves)"],
+    "testsets": [
+        "graver_moves(matrix, cost)", "is_test_set(matrix, cost, moves)",
+        "test_fault(matrix, cost, moves)", "least_test_set(matrix, cost)",
+        "is_least(matrix, cost, moves)", "test_paper(matrix, cost, moves)",
+        "is_test_paper(matrix, cost, moves, paper)", "completed(matrix, cost, moves)"],
+    "staircases": [
+        "corners(matrix, cost)", "is_free(matrix, cost, places)", "free_sets(matrix, cost)",
+        "cells(matrix, cost)", "cell_weight(matrix, places)"],
 }
 
 BUILTINS = set("""len range enumerate zip min max sum abs sorted reversed int str bool bytes list
@@ -43,7 +67,8 @@ BUILTINS = set("""len range enumerate zip min max sum abs sorted reversed int st
 METHODS = set("""append clear copy count endswith extend find get index insert isalnum isalpha
     isdigit items join keys lower lstrip pop remove replace reverse rfind rstrip setdefault split
     splitlines startswith strip update upper values zfill bit_length __init__""".split())
-LIBRARY = {"math": {"gcd", "lcm", "isqrt"}, "itertools": {"combinations", "product"}}
+LIBRARY = {"math": {"gcd", "lcm", "isqrt"}, "itertools": {"combinations", "product"},
+           "heapq": {"heappop", "heappush"}}
 BARRED = set("""mro elements open input law register type typing enum Enum Flag Generic Protocol
     ABC namedtuple dataclass overload contextmanager eval exec global float complex round hash
     print""".split())
@@ -59,6 +84,22 @@ PARSED = [(path, tree_of(path)) for path in FILES]
 
 def functions_in(tree):
     return [node for node in ast.walk(tree) if isinstance(node, ast.FunctionDef)]
+
+
+def defined_in(tree):
+    """The functions, classes and plain values of a file."""
+    named = {node.name for node in tree.body if isinstance(node, (ast.FunctionDef, ast.ClassDef))}
+    return named | {target.id for node in tree.body if isinstance(node, ast.Assign)
+                    for target in node.targets}
+
+
+def methods_in(tree):
+    return [function for node in tree.body if isinstance(node, ast.ClassDef)
+            for function in functions_in(node) if function.name != "__init__"]
+
+
+OWN_METHODS = {function.name for _, tree in PARSED for function in methods_in(tree)}
+VALUES = (0, "", b"", [], (), {}, set())
 
 
 def bound_in(function):
@@ -109,9 +150,7 @@ class Form(unittest.TestCase):
                         self.assertIs(node, tree.body[0])
 
     def test_imports(self):
-        defined = {path.stem: {node.name for node in tree_of(path).body
-                               if isinstance(node, (ast.FunctionDef, ast.ClassDef))}
-                   for path in FILES}
+        defined = {path.stem: defined_in(tree) for path, tree in PARSED}
         for path, tree in PARSED:
             with self.subTest(path.name):
                 for node in ast.walk(tree):
@@ -170,7 +209,7 @@ class Form(unittest.TestCase):
             with self.subTest(path.name):
                 for node in ast.walk(tree):
                     if isinstance(node, ast.Call) and isinstance(node.func, ast.Attribute):
-                        self.assertIn(node.func.attr, METHODS)
+                        self.assertIn(node.func.attr, METHODS | OWN_METHODS)
                     if isinstance(node, ast.Constant):
                         self.assertNotIsInstance(node.value, (float, complex))
                         self.assertNotIn("%", str(node.value))
@@ -180,6 +219,31 @@ class Form(unittest.TestCase):
                         for sign, other in zip(node.ops, node.comparators):
                             if isinstance(sign, (ast.Is, ast.IsNot)):
                                 self.assertIn(getattr(other, "value", 0), (None, True, False))
+
+    def test_names_of_methods_and_attributes(self):
+        taken = {name for value in VALUES for name in dir(value)}
+        self.assertEqual(OWN_METHODS & taken, set())
+        for path, tree in PARSED:
+            with self.subTest(path.name):
+                given = {node.attr for node in ast.walk(tree)
+                         if isinstance(node, ast.Attribute) and isinstance(node.ctx, ast.Store)}
+                self.assertEqual(given & (taken | OWN_METHODS), set())
+                for node in ast.walk(tree):
+                    if isinstance(node, ast.ClassDef):
+                        names = [function.name for function in functions_in(node)]
+                        self.assertEqual(len(names), len(set(names)), node.name)
+
+    def test_a_loop_does_not_change_what_it_goes_over(self):
+        for path, tree in PARSED:
+            with self.subTest(path.name):
+                for loop in ast.walk(tree):
+                    if isinstance(loop, ast.For):
+                        over = {ast.unparse(node) for node in ast.walk(loop.iter)
+                                if isinstance(node, (ast.Name, ast.Attribute))}
+                        for call in ast.walk(ast.Module(loop.body, [])):
+                            if isinstance(call, ast.Call) and isinstance(call.func, ast.Attribute):
+                                if call.func.attr in ("append", "extend", "pop", "clear", "insert"):
+                                    self.assertNotIn(ast.unparse(call.func.value), over)
 
     def test_barred_words(self):
         for path in FILES:
