@@ -151,6 +151,17 @@ class Meetings(unittest.TestCase):
             bad_meeting(LINE, (0, 1), moves)
         self.assertIsNone(bad_meeting(LINE, (0, 1), moves[:2]))
 
+    def test_a_way_down_that_runs_into_one_that_is_long_enough(self):
+        # From (1, 5000, 0) it has 5000 indexes; from (0, 5001, 0), one step before, 5001.
+        moves = [((0, 1, 0), (1, 0, 0)), ((0, 5001, 0), (5001, 0, 0)),
+                 ((0, 0, 5001), (0, 5001, 0)), ((0, 0, 5001), (5001, 0, 0))]
+        self.assertIsNone(bad_meeting(PLANE, (0, 1, 2), moves[:3]))
+        self.assertIs(is_good(PLANE, (0, 1, 2), moves, 0, 1), True)
+        for call in (lambda: bad_meeting(PLANE, (0, 1, 2), moves),
+                     lambda: is_good(PLANE, (0, 1, 2), moves, 2, 3)):
+            with self.assertRaises(TooLarge):
+                call()
+
 
 class Walks(unittest.TestCase):
     """[65]"""
@@ -200,7 +211,7 @@ class Walks(unittest.TestCase):
     def test_more_than_2000_vectors(self):
         found = walk_between(LINE, (0, 1), LINE_MOVES, (0, 1999), (1999, 0))
         self.assertEqual(found, [(0, 1)] * 1999)
-        for one, other in [((0, 2001), (2001, 0)), ((5000, 0), (0, 5000))]:
+        for one, other in [((0, 2000), (2000, 0)), ((0, 2001), (2001, 0)), ((5000, 0), (0, 5000))]:
             with self.assertRaises(TooLarge):
                 walk_between(LINE, (0, 1), LINE_MOVES, one, other)
         # The other vector is not reached at all.

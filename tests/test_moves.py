@@ -107,7 +107,8 @@ class Moves(unittest.TestCase):
             ((1, 0, 0), (0, 1, 0)), ((1, 0, 0), (0, 0, 1)), ((2, 0, 0), (0, 1, 1))]))
         for moves in [MOVES + MOVES[:1], [MOVES[0], MOVES[0]], [MOVES[0][::-1]],
                       MOVES + [((0, 0, 0, 0), (0, 0, 0, 0))], [((0, 0, 2), (0, 1, 0))],
-                      MOVES + [((0, 1, 2, 0), (0, 2, 0, 1))], [((), ())]]:
+                      MOVES + [((0, 1, 2, 0), (0, 2, 0, 1))], [((), ())],
+                      [()], [MOVES[0][:1]], [MOVES[0] + MOVES[1]], MOVES + [((0, 0, 2, 0),) * 3]]:
             with self.subTest(moves):
                 with self.assertRaises(NotMoves):
                     check_moves(TWISTED, COST, moves)

@@ -313,6 +313,7 @@ class Completing(unittest.TestCase):
     def test_more_than_400_moves(self):
         line, cost = ((1, 1),), (0, 1)
         moves = [((0, k), (k, 0)) for k in range(1, 402)]
+        self.assertEqual(completed(line, cost, moves[:400]), moves[:1])
         with self.assertRaises(TooLarge):
             completed(line, cost, moves)
         with self.assertRaises(NoAnswer):
