@@ -122,7 +122,7 @@ def lifted(vectors, place, row, most):
 
 
 def graver_of(matrix, most):
-    """Return the Graver list of a pointed matrix, or None if it has more than so many vectors."""
+    """Return the Graver list of a matrix, pointed or not, or None for more than so many vectors."""
     many = len(matrix[0])
     rows = {step_of(row): row for row in null_of(matrix, many)}
     found = []

@@ -4,7 +4,7 @@ The modules of the interface check what they are given, and then call these.
 """
 
 from itertools import combinations
-from math import gcd
+from math import gcd, lcm
 
 
 def dot(one, other):
@@ -254,3 +254,27 @@ def shares_of(chosen, side):
     if any(row[many] != 0 for row in rest):
         return None
     return tuple(lowest(row[many], row[at]) for at, row in enumerate(solved))
+
+
+def gauges_of(chosen, many):
+    """Return for each column a row that is 0 at all others, and its positive product with it.
+
+    Return None if the columns, of so many entries, are not independent.
+    """
+    found = []
+    for at, column in enumerate(chosen):
+        others = chosen[:at] + chosen[at + 1:]
+        rows = [row for row in null_of(others, many) if dot(row, column) != 0]
+        if not rows:
+            return None
+        times = dot(rows[0], column)
+        found.append((rows[0], times) if times > 0 else (opposite_of(rows[0]), -times))
+    return found
+
+
+def scaled_up(numbers):
+    """Return fractions as integers over one positive integer, and this integer."""
+    common = 1
+    for _, below in numbers:
+        common = lcm(common, below)
+    return tuple(above * (common // below) for above, below in numbers), common

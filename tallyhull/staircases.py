@@ -35,12 +35,16 @@ def is_free(matrix, cost, places):
     return is_without_corner(supports, places)
 
 
-def free_sets(matrix, cost):
-    """Return the list of all free sets, those with fewer indexes first."""
-    supports = [support(corner) for corner in corners(matrix, cost)]
-    many = len(matrix[0])
+def frees_by(found, many):
+    """Return the list of all free sets by the corners, those with fewer indexes first."""
+    supports = [support(corner) for corner in found]
     return [places for size in range(many + 1) for places in combinations(range(many), size)
             if is_without_corner(supports, places)]
+
+
+def free_sets(matrix, cost):
+    """Return the list of all free sets, those with fewer indexes first."""
+    return frees_by(corners(matrix, cost), len(matrix[0]))
 
 
 def cells(matrix, cost):

@@ -60,6 +60,28 @@ INTERFACE = {
     "staircases": [
         "corners(matrix, cost)", "is_free(matrix, cost, places)", "free_sets(matrix, cost)",
         "cells(matrix, cost)", "cell_weight(matrix, places)"],
+    "boxes": [
+        "boxes(matrix, cost)", "is_box(matrix, box)", "in_box(matrix, box, vector)",
+        "is_standard(matrix, cost, box)", "vector_in(matrix, box, side)",
+        "first_by_boxes(matrix, cost, side)", "is_box_list(matrix, cost, found)"],
+    "cheapest": [
+        "is_first(matrix, cost, vector)", "first_from(matrix, cost, vector)",
+        "first_solution(matrix, cost, side)", "optimum(matrix, cost, side)",
+        "reduced_prices(matrix, cost, side)", "rivals(matrix, cost, side)",
+        "second_solution(matrix, cost, side)"],
+    "answers": [
+        "side_answer(matrix, cost, side)", "is_side_answer(matrix, cost, side, answer)",
+        "shows(answer)", "same_side(matrix, cost, one, other)"],
+    "posts": [
+        "posts(matrix, cost)", "feet(matrix, cost)", "stays_below(matrix, cost, row)",
+        "idle_columns(matrix, cost)"],
+    "holes": [
+        "low_sides(matrix)", "fundamental_holes(matrix)", "is_normal(matrix)",
+        "low_part(matrix, side)"],
+    "holeboxes": [
+        "stops_of_hole(matrix, hole)", "hole_boxes(matrix)", "is_solved(matrix, side)",
+        "is_hole(matrix, side)", "kind_of_side(matrix, side)", "hole_paper(matrix, side)",
+        "is_hole_paper(matrix, side, paper)", "endless_hole(matrix)", "all_holes(matrix)"],
 }
 
 BUILTINS = set("""len range enumerate zip min max sum abs sorted reversed int str bool bytes list
