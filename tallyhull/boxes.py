@@ -37,9 +37,9 @@ def bits_of(truths):
     return found
 
 
-def corner_bits(found, k, most):
-    """Return for each entry from 0 to the greatest one which corners have none above it there."""
-    return [bits_of([corner[k] <= entry for corner in found]) for entry in range(most + 1)]
+def corner_bits(found, k, entries):
+    """Return for each of some entries at an index which corners have none above it there."""
+    return [bits_of([corner[k] <= entry for corner in found]) for entry in entries]
 
 
 def grown_part(part, at, entry, bits):
@@ -60,7 +60,7 @@ def parts_with(found, free, sizes):
     layer = [((), every, (every,) * len(outside))]
     for at, k in enumerate(outside):
         # An entry that is as great as those of all corners there might be free.
-        told = corner_bits(found, k, sizes[k] - 1)
+        told = corner_bits(found, k, list(range(sizes[k])))
         layer = [grown_part(part, at, entry, bits)
                  for part in layer for entry, bits in enumerate(told)]
         # Where no corner stands within it even with one index more free, the box is too small.
@@ -74,15 +74,21 @@ def filled_box(entries, free, many):
     return tuple(told.get(k, 0) for k in range(many)), free
 
 
+def check_tried(found, many):
+    """Raise TooLarge if the boxes of the corners would be sought among too many vectors."""
+    sizes = greatest_entries(found, many)
+    tried = [volume_at(sizes, outside_of(free, many)) for free in frees_by(found, many)]
+    if sum(tried) > MOST_TRIED:
+        raise TooLarge("the boxes would be sought among more than 300000 vectors")
+
+
 def boxes_by(found, many):
     """Return the list of the standard boxes by the corners, or raise TooLarge."""
+    check_tried(found, many)
     sizes = greatest_entries(found, many)
-    frees = sorted(frees_by(found, many))
-    if sum(volume_at(sizes, outside_of(free, many)) for free in frees) > MOST_TRIED:
-        raise TooLarge("the boxes would have to be sought among more than 300000 vectors")
     # The parts ascend, as their entries were added in the order of the indexes.
-    return [filled_box(entries, free, many)
-            for free in frees for entries in parts_with(found, free, sizes)]
+    return [filled_box(entries, free, many) for free in sorted(frees_by(found, many))
+            for entries in parts_with(found, free, sizes)]
 
 
 def boxes(matrix, cost):
@@ -206,28 +212,53 @@ def first_by_boxes(matrix, cost, side):
     return first_in(matrix, boxes(matrix, cost), side)
 
 
-def box_bits(found, k, most):
-    """Return for each entry from 0 to the greatest one which boxes have a vector with it there."""
-    open_there = bits_of([k in free for _, free in found])
+def box_bits(found, k, entries):
+    """Return for each of some entries at an index which boxes have a vector with it there."""
+    free_there = bits_of([k in free for _, free in found])
     told = {}
     for at, (u, free) in enumerate(found):
         if k not in free:
             told[u[k]] = told.get(u[k], 0) | (1 << at)
-    return [open_there | told.get(entry, 0) for entry in range(most + 1)]
+    return [free_there | told.get(entry, 0) for entry in entries]
 
 
-def leaves_out_one(heads, found, sizes):
-    """Return whether a vector with entries up to these sizes is first, by the corners, and in no box.
+def entries_apart(heads, found, k):
+    """Return entries at an index for all that corners and boxes tell apart there.
+
+    Between one entry of a corner and the next one the same corners stand, and all entries
+    that no box has are alike: the least of them is that of the corner, or behind one of a box.
+    """
+    told = {0: True}
+    for head in heads:
+        told[head[k]] = True
+    for u, _ in found:
+        told[u[k]] = True
+        told[u[k] + 1] = True
+    return list(told)
+
+
+def leaves_out_one(heads, found):
+    """Return whether a vector is first, by the corners, and in none of some boxes.
 
     Vectors that have the same corners within them, and the same boxes around them, up to an
     index are looked at together.
     """
     layer = {((1 << len(heads)) - 1, (1 << len(found)) - 1): True}
-    for k, most in enumerate(sizes):
-        pairs = list(zip(corner_bits(heads, k, most), box_bits(found, k, most)))
+    for k in range(len(found[0][0])):
+        entries = entries_apart(heads, found, k)
+        told = {pair: True for pair in zip(
+            corner_bits(heads, k, entries), box_bits(found, k, entries))}
         layer = {(within & bits, around & others): True
-                 for within, around in layer for bits, others in pairs}
+                 for within, around in layer for bits, others in told}
     return (0, 0) in layer
+
+
+def lists_all_first(heads, found):
+    """Return whether boxes have first vectors alone, by the corners, and leave out none of them."""
+    # No boxes leave out the vector of zeros, which is first.
+    if not found or not all(has_first_alone(heads, box) for box in found):
+        return False
+    return not leaves_out_one(heads, found)
 
 
 def is_box_list(matrix, cost, found):
@@ -240,5 +271,4 @@ def is_box_list(matrix, cost, found):
     sizes = [max(a, b + 1) for a, b in zip(greatest_entries(heads, many), above)]
     if volume_at([size + 1 for size in sizes], range(many)) > MOST_LOOKED_AT:
         raise TooLarge("more than 100000 vectors would be looked at")
-    return all(has_first_alone(heads, box) for box in found) and not leaves_out_one(
-        heads, found, sizes)
+    return lists_all_first(heads, found)

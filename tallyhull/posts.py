@@ -34,11 +34,16 @@ def foot_of(matrix, cost, row):
     return tuple(k for k, entry in enumerate(cost) if products[k] == entry * common)
 
 
+def scaled_rows(rows):
+    """Return rows of fractions of one length as rows of integers over one positive integer."""
+    every, common = scaled_up([pair for row in rows for pair in row])
+    many = len(rows[0])
+    return [every[at * many:at * many + many] for at in range(len(rows))], common
+
+
 def in_order(rows):
     """Return rows of fractions of one length, each once, ascending by their values."""
-    every, _ = scaled_up([pair for row in rows for pair in row])
-    many = len(rows[0])
-    told = {every[at * many:at * many + many]: row for at, row in enumerate(rows)}
+    told = dict(zip(scaled_rows(rows)[0], rows))
     return [told[key] for key in sorted(told)]
 
 

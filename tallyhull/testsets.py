@@ -49,15 +49,20 @@ def least_heads(heads):
             if not any(fits(other, head) for other in heads if other != head)]
 
 
-def least_test_set(matrix, cost):
-    """Return the least test set, a list."""
+def least_of(cost, every):
+    """Return the least test set out of the moves of all vectors of the Graver list."""
     tails = {}
-    for head, tail in graver_moves(matrix, cost):
+    for head, tail in every:
         if head not in tails or is_before(cost, tail, tails[head]):
             tails[head] = tail
     # The difference of a least head and of the first solution of its side is in the Graver
     # list: so the tail that comes before the others of this head is this first solution.
     return [(head, tails[head]) for head in least_heads(list(tails))]
+
+
+def least_test_set(matrix, cost):
+    """Return the least test set, a list."""
+    return least_of(cost, graver_moves(matrix, cost))
 
 
 def is_least(matrix, cost, moves):

@@ -12,7 +12,7 @@ from tallyhull.errors import (
     BadNumber, NoAnswer, NotCost, NotMatrix, NotPointed, NotSide, NotVector, TooLarge)
 from tallyhull.staircases import cell_weight, cells, corners, free_sets
 from tests.fibers import (
-    ALONE, LIMIT, LISTED, WIDE, costs_for, first_by_looking, key_of, minus, plus, solutions_by_hand,
+    ALONE, LISTED, WIDE, costs_for, first_by_looking, key_of, minus, plus, solutions_by_hand,
     stands_at, wrong_calls)
 from tests.samples import (
     FLAT, GAPPED, SLOPED, TWISTED, columns_by_hand, dot, image_by_hand, rank_by_fractions,

@@ -82,6 +82,26 @@ INTERFACE = {
         "stops_of_hole(matrix, hole)", "hole_boxes(matrix)", "is_solved(matrix, side)",
         "is_hole(matrix, side)", "kind_of_side(matrix, side)", "hole_paper(matrix, side)",
         "is_hole_paper(matrix, side, paper)", "endless_hole(matrix)", "all_holes(matrix)"],
+    "optima": [
+        "fraction_optimum(matrix, cost, side)", "posts_at(matrix, cost, side)",
+        "optimum_paper(matrix, cost, side)", "is_optimum_paper(matrix, cost, side, paper)"],
+    "losses": [
+        "loss_of(matrix, cost, side)", "box_loss(matrix, cost, box)", "box_losses(matrix, cost)",
+        "side_losing(matrix, cost, number)", "greatest_loss(matrix, cost)",
+        "is_lossless(matrix, cost)", "loss_paper(matrix, cost)",
+        "is_loss_paper(matrix, cost, paper)"],
+    "coins": [
+        "least_row(coins)", "is_payable(coins, amount)", "gaps(coins)", "gap_count(coins)",
+        "greatest_gap(coins)", "last_gaps(coins)", "is_even_handed(coins)"],
+    "solutions": [
+        "solutions(matrix, side)", "solution_number(matrix, side)",
+        "column_range(matrix, side, column)", "is_walk(matrix, one, other, steps)"],
+    "joins": [
+        "joins_side(matrix, moves, side)", "joins_all(matrix, moves)", "unjoined(matrix, moves)",
+        "needed_sides(matrix)", "least_joining(matrix)"],
+    "costs": [
+        "alike_costs(matrix, cost, other)", "parting_side(matrix, cost, other)",
+        "cost_classes(matrix, costs)"],
 }
 
 BUILTINS = set("""len range enumerate zip min max sum abs sorted reversed int str bool bytes list

@@ -9,7 +9,7 @@ from tallyhull.errors import NoAnswer, NotMatrix, NotPointed, NotSide, TooLarge
 from tallyhull.holeboxes import (
     all_holes, endless_hole, hole_boxes, hole_paper, is_hole, is_hole_paper, is_solved,
     kind_of_side, stops_of_hole)
-from tallyhull.holes import fundamental_holes, is_normal, low_part
+from tallyhull.holes import fundamental_holes, is_normal
 from tests.fibers import ALONE, plus, solutions_by_hand, stands_at, wrong_calls
 from tests.samples import (
     FLAT, GAPPED, SLOPED, TWISTED, columns_by_hand, first_by_hand, image_by_hand, sides_near)

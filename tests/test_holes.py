@@ -5,7 +5,6 @@ from functools import lru_cache
 from itertools import product
 from random import Random
 
-from tallyhull.cones import is_in_cone
 from tallyhull.errors import NoAnswer, NotMatrix, NotPointed, NotSide, TooLarge
 from tallyhull.holes import fundamental_holes, is_normal, low_part, low_sides
 from tallyhull.matrices import check_side

@@ -5,7 +5,6 @@ from fractions import Fraction
 from random import Random
 
 from tallyhull.cones import fixed_places
-from tallyhull.errors import NotCost, NotMatrix, NotPointed
 from tallyhull.posts import feet, idle_columns, posts, stays_below
 from tests.fibers import ALONE, LISTED, WIDE, costs_for, wrong_calls
 from tests.samples import (
