@@ -43,7 +43,7 @@ class First(unittest.TestCase):
         counts = set()
         for matrix in PLAIN:
             for cost in costs_for(matrix):
-                for side in some_sides(matrix):
+                for side in some_sides(matrix)[::2]:
                     every = ranked(matrix, cost, side)
                     counts.add(min(len(every), 3))
                     wanted = every[0] if every else None
@@ -245,7 +245,7 @@ class Rivals(unittest.TestCase):
     def test_the_second_solution(self):
         for matrix in PLAIN:
             for cost in costs_for(matrix):
-                for side in some_sides(matrix):
+                for side in some_sides(matrix)[1::2]:
                     every = ranked(matrix, cost, side)
                     self.assertEqual(second_solution(matrix, cost, side),
                                      every[1] if len(every) > 1 else None)

@@ -105,7 +105,8 @@ class Last(unittest.TestCase):
         several = 0
         for coins in mixed_coins():
             every = gaps_by_hand(coins)
-            wanted = [gap for gap in every if not any(gap + coin in set(every) for coin in coins)]
+            told = set(every)
+            wanted = [gap for gap in every if not any(gap + coin in told for coin in coins)]
             found = last_gaps(coins)
             self.assertIsInstance(found, list)
             self.assertEqual(found, wanted, coins)
@@ -120,9 +121,10 @@ class Last(unittest.TestCase):
         for coins in mixed_coins():
             greatest = max(gaps_by_hand(coins), default=None)
             common = gcd(*coins)
+            told_by = payable_by_hand(coins, far(coins))
             wanted = greatest is not None and all(
-                is_payable(coins, amount) != is_payable(coins, greatest - amount)
-                for amount in range(-5 * common, greatest + 5 * common, common))
+                told_by[amount] != told_by[greatest - amount]
+                for amount in range(0, greatest + 1, common))
             self.assertIs(is_even_handed(coins), wanted)
             told[wanted] += 1
         self.assertGreater(min(told.values()), 5)
