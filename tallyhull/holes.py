@@ -74,15 +74,15 @@ def low_sides_of(matrix):
     """Return the ascending list of the low sides of a pointed matrix."""
     many = len(matrix)
     basis = stairs_of(columns_of(matrix), many)
-    chosen = [columns_at(matrix, places) for places in bases(matrix)]
-    forms = [form_of(basis, columns) for columns in chosen]
+    every = [columns_at(matrix, places) for places in bases(matrix)]
+    forms = [form_of(basis, chosen) for chosen in every]
     if sum(volume_of(form) for form in forms) > MOST_SUMS:
         raise TooLarge("the bases have more than 20000 sums together")
     rows = facets_of(matrix)
     heights = heights_of(matrix, rows)
     found = {}
-    for form, columns in zip(forms, chosen):
-        for side in sums_of_base(basis, form, columns, many):
+    for form, chosen in zip(forms, every):
+        for side in sums_of_base(basis, form, chosen, many):
             if side not in found:
                 found[side] = is_low_by(rows, heights, side)
     return sorted([side for side in found if found[side]])

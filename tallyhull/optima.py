@@ -53,8 +53,9 @@ def posts_at(matrix, cost, side):
 
 def solution_at(matrix, foot, side):
     """Return a fraction solution of a side by columns of a foot alone, or None."""
-    for size in range(len(foot) + 1):
-        for places in combinations(foot, size):
+    every = list(foot)
+    for size in range(len(every) + 1):
+        for places in combinations(every, size):
             shares = shares_of(columns_at(matrix, places), side)
             if shares is not None and all(pair[0] >= 0 for pair in shares):
                 told = dict(zip(places, shares))

@@ -200,6 +200,9 @@ class Papers(unittest.TestCase):
                 self.assertIs(is_hole_paper(GAPPED, side, paper), False)
         self.assertIs(is_hole_paper(GAPPED, (2, 3), ((1, 2), (0, 1, 0))), False)
         self.assertIs(is_hole_paper(GAPPED, (0, 0), ((0, 0), (0, 0, 0))), False)
+        self.assertIs(is_hole_paper(GAPPED, (0, -1), ((1, 2), (0, 0, -1))), False)
+        self.assertIs(is_hole_paper(GAPPED, (2, 5), ((1, 2), (-1, 0, 2))), False)
+        self.assertIs(is_hole_paper(GAPPED, (1, 3), ((1, 2), (-2, 1, 1))), False)
         self.assertIs(is_hole_paper(SLOPED, (7, 8), ((7, 8), (0, 0))), False)
         self.assertIs(is_hole_paper(SLOPED, (1, 0), ((1, 0), (0, 0))), False)
 

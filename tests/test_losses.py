@@ -174,6 +174,22 @@ class SidesThatLose(unittest.TestCase):
                 found = side_losing(matrix, cost, most)
                 self.assertEqual(loss_of(matrix, cost, image_by_hand(matrix, found)), most)
 
+    def test_a_member_far_out(self):
+        # Only far out at the free columns some members lose what their box loses.
+        for matrix, cost, most in [
+                (((1, 0, 0, 2, 4), (3, 5, 0, 5, 4), (1, 0, 3, 6, 6)), (1, 1, 1, 1, 1), (279, 10)),
+                (((2, 3, 2, 0, 6), (5, 4, 5, 5, 2), (1, 0, 1, 2, 2)), (-2, -1, 2, 2, -1), (2091, 14)),
+                (((3, 1, 1, 0, 6), (0, 1, 6, 1, 1), (6, 1, 2, 2, 1)), (-1, 2, -3, 4, -5), (1711, 9))]:
+            self.assertEqual(greatest_loss(matrix, cost), most)
+            for found in (side_losing(matrix, cost, most), loss_paper(matrix, cost)[1]):
+                self.assertIs(is_first(matrix, cost, found), True)
+                side = image_by_hand(matrix, found)
+                self.assertEqual(as_pair(dot(cost, found) - optimum_by_hand(matrix, cost, side)), most)
+            half = Fraction(*most) / 2
+            found = side_losing(matrix, cost, as_pair(half))
+            side = image_by_hand(matrix, found)
+            self.assertGreaterEqual(dot(cost, found) - optimum_by_hand(matrix, cost, side), half)
+
     def test_what_is_no_fraction(self):
         for number in NO_NUMBERS:
             with self.subTest(number=number):
@@ -275,6 +291,8 @@ class Papers(unittest.TestCase):
                 (number, solution, third + [(((2, 0), (1,)), ((1, 3), (0, 1)))]),
                 (number, solution, third + [(((2, 0), (1,)), ())]),
                 (number, solution, third + [(((2, 0), (1,)), (1, 3))]),
+                (number, solution, third + [(((2, 0), (1,)), (1,))]),
+                (number, solution, third + [(((2, 0), (1,)), ((1, (3,)),))]),
                 (number, solution, third + [(((2, 0), (1,)), [(1, 3)])]),
                 (number, solution, third + [(((2, 0), (1,)), ((1, 0),))]),
                 (number, solution, third + [(((2, 0), (1,)), 5)]),
@@ -289,6 +307,11 @@ class Papers(unittest.TestCase):
                 (number, solution), (number, solution, rows, rows), ()]:
             with self.subTest(paper=paper):
                 self.assertIs(is_loss_paper(PAIR, ONES, paper), False)
+
+    def test_a_solution_with_the_least_price_that_is_not_first(self):
+        number, solution, rows = loss_paper(((1, 1),), (0, 0))
+        self.assertIs(is_loss_paper(((1, 1),), (0, 0), (number, (0, 1), rows)), True)
+        self.assertIs(is_loss_paper(((1, 1),), (0, 0), (number, (1, 0), rows)), False)
 
     def test_other_rows_and_boxes_will_do(self):
         # A box that is not standard, split in two, and a row that is no post.

@@ -107,9 +107,13 @@ class Lists(unittest.TestCase):
         # 40 ways for the first two columns, and 50 for the last two.
         crossed = (1, 1, 0, 0), (0, 0, 1, 1)
         self.assertEqual(len(solutions(crossed, (39, 49))), 2000)
-        self.assertEqual(solution_number(crossed, (40, 48)), 41 * 49)
         with self.assertRaises(TooLarge):
             solutions(crossed, (40, 48))
+        # And 3, 23 and 29 ways for two columns each.
+        crossed = (1, 1, 0, 0, 0, 0), (0, 0, 1, 1, 0, 0), (0, 0, 0, 0, 1, 1)
+        self.assertEqual(solution_number(crossed, (2, 22, 28)), 2001)
+        with self.assertRaises(TooLarge):
+            solutions(crossed, (2, 22, 28))
 
 
 class Ranges(unittest.TestCase):
@@ -174,6 +178,8 @@ class Walks(unittest.TestCase):
                 (x, x, [(1, -2, 1, 0), (-1, 2, -1, 0)], True), (x, y, [(1, -2, 1, 0)] * 2, False),
                 (x, x, [(1, 0, 0, 0), (-1, 0, 0, 0)], False),
                 ((0, -1, 0, 0), (0, -1, 0, 0), [], False), ((1, -1, 0, 0), (1, -1, 0, 0), [], False),
+                ((1, -1, 1, 0), (0, 1, 0, 0), [(-1, 2, -1, 0)], False),
+                ((0, 1, 0, 0), (1, -1, 1, 0), [(1, -2, 1, 0)], False),
                 (x, (1, -1, 3, 0), [], False), ((-1, 2, 1, 0), x, [(1, -2, 1, 0)], False),
                 (x, (2, -2, 3, 0), [(1, -2, 1, 0), (1, -2, 1, 0)], False),
                 ((0, 0, 0, 0), (0, 0, 0, 0), [], True), ((10 ** 30, 0, 0, 0), (10 ** 30, 0, 0, 0), [], True)]:
