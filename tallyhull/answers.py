@@ -6,16 +6,9 @@ from tallyhull.holeboxes import is_hole_paper_of
 from tallyhull.holes import low_part_of
 from tallyhull.lattices import is_rest_paper, lattice_answer
 from tallyhull.linear import image_of
-from tallyhull.matrices import check_cost, check_pointed, check_side, has_integers, is_solution
+from tallyhull.matrices import check_asked, check_cost, check_pointed, has_integers, is_solution
 from tallyhull.moves import check_solution, first_standing, is_proper, way_down
 from tallyhull.testsets import first_fault, least_test_set, listed_moves
-
-
-def check_asked(matrix, cost, side):
-    """Raise the error for what is wrong first of a matrix, a cost and a side."""
-    check_pointed(matrix)
-    check_cost(matrix, cost)
-    check_side(matrix, side)
 
 
 def side_answer(matrix, cost, side):

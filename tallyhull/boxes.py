@@ -3,7 +3,7 @@
 from tallyhull.errors import BadNumber, NoAnswer, TooLarge
 from tallyhull.farkas import columns_at
 from tallyhull.linear import dot, gauges_of, image_of, less
-from tallyhull.matrices import check_cost, check_pointed, check_side, check_vector, has_integers
+from tallyhull.matrices import check_asked, check_pointed, check_side, check_vector, has_integers
 from tallyhull.staircases import corners, frees_by
 
 MOST_TRIED = 300000
@@ -206,9 +206,7 @@ def first_in(matrix, listed, side):
 
 def first_by_boxes(matrix, cost, side):
     """Return the first solution of a side, found by the standard boxes, or None."""
-    check_pointed(matrix)
-    check_cost(matrix, cost)
-    check_side(matrix, side)
+    check_asked(matrix, cost, side)
     return first_in(matrix, boxes(matrix, cost), side)
 
 

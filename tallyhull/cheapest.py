@@ -2,7 +2,7 @@
 
 from tallyhull.boxes import boxes_by, first_by_boxes, first_in
 from tallyhull.linear import columns_of, dot, fits, less
-from tallyhull.matrices import check_cost, check_pointed, check_side
+from tallyhull.matrices import check_asked, check_cost, check_pointed
 from tallyhull.moves import check_solution, first_standing, way_down
 from tallyhull.staircases import corners
 from tallyhull.testsets import least_test_set, listed_moves
@@ -40,9 +40,7 @@ def optimum(matrix, cost, side):
 
 def reduced_prices(matrix, cost, side):
     """Return the tuple of the reduced prices of all columns, or None for no solution."""
-    check_pointed(matrix)
-    check_cost(matrix, cost)
-    check_side(matrix, side)
+    check_asked(matrix, cost, side)
     listed = boxes_by(corners(matrix, cost), len(matrix[0]))
     found = first_in(matrix, listed, side)
     if found is None:

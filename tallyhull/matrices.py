@@ -186,3 +186,10 @@ def check_pointed(matrix):
     """Raise NotMatrix for what is no matrix, then NotPointed if it is not pointed."""
     if not is_pointed(matrix):
         raise NotPointed("the matrix has a ring")
+
+
+def check_asked(matrix, cost, side):
+    """Raise the error for what is wrong first of a pointed matrix, a cost and a side."""
+    check_pointed(matrix)
+    check_cost(matrix, cost)
+    check_side(matrix, side)

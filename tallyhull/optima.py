@@ -5,15 +5,8 @@ from itertools import combinations
 from tallyhull.errors import NoAnswer
 from tallyhull.farkas import columns_at, is_fraction_solution
 from tallyhull.linear import dot, is_in_cone_of, lowest, scaled_up, shares_of
-from tallyhull.matrices import check_cost, check_pointed, check_side
+from tallyhull.matrices import check_asked
 from tallyhull.posts import foot_of, is_row_below, posts_of, scaled_rows
-
-
-def check_asked(matrix, cost, side):
-    """Raise the error for what is wrong first of a matrix, a cost and a side."""
-    check_pointed(matrix)
-    check_cost(matrix, cost)
-    check_side(matrix, side)
 
 
 def heights_at(rows, side):
