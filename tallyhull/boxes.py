@@ -267,6 +267,6 @@ def is_box_list(matrix, cost, found):
     many = len(matrix[0])
     above = greatest_entries([u for u, _ in found], many)
     sizes = [max(a, b + 1) for a, b in zip(greatest_entries(heads, many), above)]
-    if volume_at([size + 1 for size in sizes], range(many)) > MOST_LOOKED_AT:
+    if volume_at([size + 1 for size in sizes], list(range(many))) > MOST_LOOKED_AT:
         raise TooLarge("more than 100000 vectors would be looked at")
     return lists_all_first(heads, found)

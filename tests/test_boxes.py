@@ -371,6 +371,23 @@ class Limits(unittest.TestCase):
         with self.assertRaises(BadNumber):
             is_box_list(one, cost, [((99999,), ()), ((1,), (0,))])
 
+    def test_just_below_and_just_above_the_limit(self):
+        # Two corners, (1, 0, 0) and (0, 1, 0): with u = (0, 0, n) there are 2, 2 and n + 2 entries.
+        matrix, cost = ((1, 1, 1),), (0, 0, 0)
+        every = boxes(matrix, cost)
+        self.assertEqual(every, [((0, 0, 0), (2,))])
+        for u, told in [((0, 0, 24998), True), ((0, 0, 24999), None), ((0, 98, 498), False),
+                        ((0, 98, 499), None), ((0, 99, 493), False), ((0, 99, 494), None),
+                        ((1, 1, 11109), False), ((1, 1, 11110), None)]:
+            with self.subTest(u=u):
+                looked = prod(entry + 2 for entry in u)
+                self.assertEqual(looked > 100000, told is None)
+                if told is None:
+                    with self.assertRaises(TooLarge):
+                        is_box_list(matrix, cost, every + [(u, ())])
+                else:
+                    self.assertIs(is_box_list(matrix, cost, every + [(u, ())]), told)
+
 
 class Wrong(unittest.TestCase):
     """The errors, and their order"""

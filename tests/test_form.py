@@ -117,11 +117,21 @@ BARRED = set("""mro elements open input law register type typing enum Enum Flag 
 STATEMENTS = (ast.FunctionDef, ast.ClassDef, ast.Import, ast.ImportFrom, ast.Assign, ast.Expr)
 
 
+ITERATORS = {"range", "zip", "enumerate", "reversed", "map", "items", "keys", "values"}
+ITERATING = set("""list tuple dict sorted sum any all min max enumerate zip len reversed
+    combinations permutations product""".split())
+
+
 def tree_of(path):
     return ast.parse(path.read_text(encoding="utf-8"))
 
 
 PARSED = [(path, tree_of(path)) for path in FILES]
+
+
+def called_name(call):
+    """The name of what is called, that of a method without its object."""
+    return getattr(call.func, "id", None) or getattr(call.func, "attr", None)
 
 
 def functions_in(tree):
@@ -274,6 +284,21 @@ class Form(unittest.TestCase):
                     if isinstance(node, ast.ClassDef):
                         names = [function.name for function in functions_in(node)]
                         self.assertEqual(len(names), len(set(names)), node.name)
+
+    def test_ranges_and_views_are_iterated_at_once(self):
+        for path, tree in PARSED:
+            with self.subTest(path.name):
+                spots = {id(node.iter) for node in ast.walk(tree)
+                         if isinstance(node, (ast.For, ast.comprehension))}
+                spots |= {id(other) for node in ast.walk(tree) if isinstance(node, ast.Compare)
+                          for other in node.comparators}
+                for node in ast.walk(tree):
+                    if isinstance(node, ast.Call) and isinstance(node.func, ast.Name):
+                        if node.func.id in ITERATING:
+                            spots |= {id(value) for value in node.args}
+                for node in ast.walk(tree):
+                    if isinstance(node, ast.Call) and called_name(node) in ITERATORS:
+                        self.assertIn(id(node), spots, f"row {node.lineno}")
 
     def test_a_loop_does_not_change_what_it_goes_over(self):
         for path, tree in PARSED:
