@@ -124,3 +124,11 @@ def wrong_calls(good, wrongs):
                 twice = list(once)
                 twice[other] = second
                 yield tuple(twice), error
+
+
+def check_errors(test, function, good, wrongs):
+    """The errors of a function: of each wrong argument, and of two of them the one that is due."""
+    for arguments, error in wrong_calls(good, wrongs):
+        with test.subTest(function.__name__, arguments=arguments):
+            with test.assertRaises(error):
+                function(*arguments)

@@ -102,6 +102,28 @@ INTERFACE = {
     "costs": [
         "alike_costs(matrix, cost, other)", "parting_side(matrix, cost, other)",
         "cost_classes(matrix, costs)"],
+    "alikes": [
+        "least_columns(matrix)", "reach_same(one, other)", "reach_difference(one, other)",
+        "row_form(matrix)", "least_form(matrix)", "change_between(one, other)",
+        "is_change(one, other, order, change)"],
+    "certificates": [
+        "pointed_shown(matrix, answer)", "lattice_shown(matrix, side, answer)",
+        "cone_shown(matrix, side, answer)", "graver_shown(matrix, vectors)",
+        "papers_shown(matrix, cost, papers)", "side_shown(matrix, cost, side, papers, answer)",
+        "optimum_shown(matrix, cost, side, paper)",
+        "loss_shown(matrix, cost, papers, paper, optimum)", "walk_shown(matrix, vectors, walk)"],
+    "texts": [
+        "ratio_text(number)", "list_text(tuples)", "tuple_text(numbers)", "read_tuple(text)",
+        "matrix_text(matrix)", "read_matrix(text)", "moves_text(matrix, cost, moves)",
+        "read_moves(matrix, cost, text)"],
+    "lines": ["words_of(line)", "is_name(word)", "number_in(word)"],
+    "siderows": [
+        "row_values(matrix, cost, start, step, n)", "row_law(matrix, cost, start, step)",
+        "value_by_law(rule, k)", "solved_times(matrix, cost, start, step)"],
+    "hilbert": [
+        "is_full(matrix, side)", "is_least_side(matrix, side)", "hilbert_list(matrix)",
+        "missing_sides(matrix)", "spare_columns(matrix)", "full_sum(matrix, side)",
+        "is_hilbert_paper(matrix, sides)", "with_missing(matrix)"],
 }
 
 BUILTINS = set("""len range enumerate zip min max sum abs sorted reversed int str bool bytes list
@@ -109,7 +131,7 @@ BUILTINS = set("""len range enumerate zip min max sum abs sorted reversed int st
 METHODS = set("""append clear copy count endswith extend find get index insert isalnum isalpha
     isdigit items join keys lower lstrip pop remove replace reverse rfind rstrip setdefault split
     splitlines startswith strip update upper values zfill bit_length __init__""".split())
-LIBRARY = {"math": {"gcd", "lcm", "isqrt"}, "itertools": {"combinations", "product"},
+LIBRARY = {"math": {"gcd", "lcm", "isqrt"}, "itertools": {"combinations", "permutations", "product"},
            "heapq": {"heappop", "heappush"}}
 BARRED = set("""mro elements open input law register type typing enum Enum Flag Generic Protocol
     ABC namedtuple dataclass overload contextmanager eval exec global float complex round hash
