@@ -227,13 +227,11 @@ def sum_of(matrix, vector):
     return sorted(members_in(matrix, vector))
 
 
-def walk(matrix, one, other):
-    """Return a list of solutions of one side that leads from the first one to the other one."""
-    check_pointed(matrix)
-    check_vector(matrix, one)
-    check_vector(matrix, other)
-    if min(one) < 0 or min(other) < 0 or image_of(matrix, one) != image_of(matrix, other):
-        raise NoAnswer("these are not two solutions of one side")
+def walk_of(matrix, one, other):
+    """Return a list of solutions from one solution to another one of the same side, or raise TooLarge.
+
+    At each column they are between both.
+    """
     steps = members_in(matrix, less(other, 1, one))
     if sum(times for _, times in steps) > MOST_STEPS:
         raise TooLarge("the walk would have more than 2000 steps")
@@ -242,3 +240,13 @@ def walk(matrix, one, other):
         for _ in range(times):
             found.append(less(found[-1], -1, step))
     return found
+
+
+def walk(matrix, one, other):
+    """Return a list of solutions of one side that leads from the first one to the other one."""
+    check_pointed(matrix)
+    check_vector(matrix, one)
+    check_vector(matrix, other)
+    if min(one) < 0 or min(other) < 0 or image_of(matrix, one) != image_of(matrix, other):
+        raise NoAnswer("these are not two solutions of one side")
+    return walk_of(matrix, one, other)

@@ -4,7 +4,7 @@ from tallyhull.errors import NoAnswer, TooLarge
 from tallyhull.graver import graver_of
 from tallyhull.holes import fundamental_holes, is_between, is_fundamental, is_in_lattice_of
 from tallyhull.holes import low_part_of
-from tallyhull.linear import fits, image_of, is_in_cone_of, less, unit
+from tallyhull.linear import fits, image_of, is_in_cone_of, less, opposite_of, unit
 from tallyhull.matrices import check_pointed, check_side, has_integers
 from tallyhull.signs import parts
 from tallyhull.testsets import least_heads
@@ -13,23 +13,27 @@ MOST_LISTED = 400
 MOST_PAIRS = 3000
 
 
+def vectors_to(matrix, side):
+    """Return the vectors of any integers with a side as image that have no other one below them.
+
+    With 1 as one entry more they are null for the matrix with the side, turned, as one column
+    more: so they are in that Graver list, or their opposites are. Raise TooLarge if it is too long.
+    """
+    wider = tuple(row + (-entry,) for row, entry in zip(matrix, side))
+    listed = graver_of(wider, MOST_LISTED)
+    if listed is None:
+        raise TooLarge("with a column more the Graver list has more than 400 vectors")
+    found = [vector[:-1] for vector in listed if vector[-1] == 1]
+    return found + [opposite_of(vector[:-1]) for vector in listed if vector[-1] == -1]
+
+
 def stops_of(matrix, hole):
     """Return the ascending list of the stops of a fundamental hole.
 
     Where hole + A x is A z, z less x is a vector with the hole as its image, and x is at
-    least its part below 0. With 1 as one entry more it is null for the matrix with the
-    hole, turned, as one column more: so one vector of that Graver list is below it.
+    least its part below 0.
     """
-    wider = tuple(row + (-entry,) for row, entry in zip(matrix, hole))
-    listed = graver_of(wider, MOST_LISTED)
-    if listed is None:
-        raise TooLarge("with the hole, turned, the Graver list has more than 400 vectors")
-    found = {}
-    for vector in listed:
-        if vector[-1] == 1:
-            found[parts(vector[:-1])[1]] = True
-        if vector[-1] == -1:
-            found[parts(vector[:-1])[0]] = True
+    found = {parts(vector)[1]: True for vector in vectors_to(matrix, hole)}
     return least_heads(list(found))
 
 

@@ -124,6 +124,32 @@ INTERFACE = {
         "is_full(matrix, side)", "is_least_side(matrix, side)", "hilbert_list(matrix)",
         "missing_sides(matrix)", "spare_columns(matrix)", "full_sum(matrix, side)",
         "is_hilbert_paper(matrix, sides)", "with_missing(matrix)"],
+    "journal": ["attempt(journal, lines, *, keep=False)", "resume(text)"],
+    "reached": [
+        "strides(matrix, weight)", "solved_top(matrix, weight)", "inner_top(matrix, weight)",
+        "hole_top(matrix, weight)", "solved_numbers(matrix, weight, n)",
+        "inner_numbers(matrix, weight, n)", "hole_numbers(matrix, weight, n)",
+        "last_level(matrix, weight)"],
+    "bounds": [
+        "excess(matrix, bounds, vector)", "step_within(matrix, cost, bounds, vector)",
+        "down_within(matrix, cost, bounds, vector)", "step_below(matrix, bounds, vector)",
+        "down_below(matrix, bounds, vector)", "first_within(matrix, cost, bounds, side)",
+        "bound_answer(matrix, cost, bounds, side)",
+        "is_bound_answer(matrix, cost, bounds, side, answer)",
+        "walk_within(matrix, bounds, one, other)"],
+    "turns": [
+        "test_set_at(matrix, cost, turn, number)", "breaks(matrix, cost, turn)",
+        "turning_list(matrix, cost, turn)", "first_at(matrix, cost, turn, number, vector)",
+        "least_slopes(matrix, cost, turn, vector)"],
+    "relaxed": [
+        "class_vectors(matrix, cost, cell)", "relaxed_first(matrix, cost, cell, side)",
+        "relaxed_optimum(matrix, cost, cell, side)", "is_exact(matrix, cost, cell, side)",
+        "best_bound(matrix, cost, side)", "exact_cells(matrix, cost, side)"],
+}
+CLASSES = {
+    "desk": {"Desk": ["answer(self, line)", "answers(self, lines)", "names(self)", "thing(self, name)"]},
+    "journal": {"Journal": ["answer(self, line)", "record(self)", "lines(self)", "keep(self)",
+                            "__enter__(self)", "__exit__(self, kind, value, trace)"]},
 }
 
 BUILTINS = set("""len range enumerate zip min max sum abs sorted reversed int str bool bytes list
@@ -219,9 +245,20 @@ class Form(unittest.TestCase):
                     self.assertIsInstance(node, STATEMENTS)
                     if isinstance(node, ast.Assign):
                         self.assertEqual(len(node.targets), 1)
-                        ast.literal_eval(node.value)
+                        self.check_plain(node.value, [other.name for other in tree.body
+                                                      if isinstance(other, ast.FunctionDef)
+                                                      and other.lineno < node.lineno])
                     if isinstance(node, ast.Expr):
                         self.assertIs(node, tree.body[0])
+
+    def check_plain(self, value, functions):
+        """A plain value, or a dict of plain keys and of functions that are defined above."""
+        if isinstance(value, ast.Dict) and any(isinstance(part, ast.Name) for part in value.values):
+            for key, part in zip(value.keys, value.values):
+                ast.literal_eval(key)
+                self.assertIn(part.id, functions)
+        else:
+            ast.literal_eval(value)
 
     def test_imports(self):
         defined = {path.stem: defined_in(tree) for path, tree in PARSED}
@@ -360,6 +397,24 @@ class Form(unittest.TestCase):
                 name, arguments = head[:-1].split("(")
                 with self.subTest(module, name=name):
                     self.assertEqual(found.get(name), arguments)
+
+    def test_the_classes_of_the_interface(self):
+        for module, classes in CLASSES.items():
+            found = {node.name: {f"{function.name}({ast.unparse(function.args)})"
+                                 for function in functions_in(node)}
+                     for node in tree_of(FOLDER / f"{module}.py").body if isinstance(node, ast.ClassDef)}
+            for name, wanted in classes.items():
+                self.assertLessEqual(set(wanted), found[name])
+
+    def test_the_end_of_a_with(self):
+        # What stands in __exit__ are tests and assignments of attributes and plain values.
+        for path, tree in PARSED:
+            for function in functions_in(tree):
+                if function.name == "__exit__":
+                    for node in ast.walk(function):
+                        self.assertNotIsInstance(node, (ast.Call, ast.Subscript, ast.For, ast.Raise))
+                        if isinstance(node, ast.Assign):
+                            self.assertIsInstance(node.value, (ast.Attribute, ast.Constant))
 
 
 if __name__ == "__main__":
