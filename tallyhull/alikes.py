@@ -3,32 +3,14 @@
 from itertools import permutations
 
 from tallyhull.errors import BadNumber
-from tallyhull.linear import columns_of, determinant, dot, holds, less, stairs_of, unit
+from tallyhull.linear import columns_of, determinant, dot, stairs_of, unit
 from tallyhull.matrices import check_matrix, check_pointed, has_integers
-from tallyhull.solutions import cone_rows
-
-# Columns that add up to another column can be put in such an order that all sums on the way
-# stay near the line to it: no entry is further off than 3 times 18 (Steinitz).
-FARTHEST = 63
+from tallyhull.solutions import left_of
 
 
 def is_sum_of(columns, side):
-    """Return whether a column is a sum of the columns of a pointed matrix, any of them left out."""
-    rows = cone_rows(columns, len(side))
-    found = {side: True}
-    queue = [side]
-    while queue:
-        here = queue.pop()
-        if not any(here):
-            return True
-        for column in columns:
-            left = less(here, 1, column)
-            if left not in found and max(left) <= FARTHEST and -min(left) <= FARTHEST:
-                found[left] = True
-                # What is left must lie in the cone, as it is a sum itself.
-                if holds(left, rows):
-                    queue.append(left)
-    return False
+    """Return whether a side is a sum of columns of a pointed matrix, each taken any number of times."""
+    return left_of(side, columns, []).get((0,) * len(side), 0) > 0
 
 
 def least_columns(matrix):

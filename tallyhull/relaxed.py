@@ -1,10 +1,8 @@
 """Relaxed columns: solutions that may be less than 0 at the columns of a cell."""
 
-from itertools import combinations
-
 from tallyhull.boxes import boxes
 from tallyhull.errors import BadNumber
-from tallyhull.farkas import columns_at
+from tallyhull.farkas import columns_at, index_sets
 from tallyhull.linear import columns_of, dot, gauges_of, image_of, is_before, less, lone_at
 from tallyhull.linear import opposite_of, rank_among
 from tallyhull.matrices import check_asked, check_cost, check_pointed
@@ -34,8 +32,7 @@ def is_cell(matrix, cost, places):
 def cells_of(matrix, cost):
     """Return the ascending list of the cells."""
     size = rank_among(columns_of(matrix), len(matrix))
-    return [places for places in combinations(range(len(matrix[0])), size)
-            if is_cell(matrix, cost, places)]
+    return [places for places in index_sets(matrix, size) if is_cell(matrix, cost, places)]
 
 
 def check_cell(matrix, cost, cell):

@@ -170,6 +170,11 @@ ITERATING = set("""list tuple dict sorted sum any all min max enumerate zip len 
     combinations permutations product""".split())
 
 
+GENERATING = set("list tuple dict sorted sum min max any all join".split())
+KEYWORDS = {"sorted": ("key", "reverse"), "min": ("key", "default"), "max": ("key", "default"),
+            "sum": ("start",), "enumerate": ("start",), "zip": ("strict",)}
+
+
 def tree_of(path):
     return ast.parse(path.read_text(encoding="utf-8"))
 
@@ -358,6 +363,54 @@ class Form(unittest.TestCase):
                 for node in ast.walk(tree):
                     if isinstance(node, ast.Call) and called_name(node) in ITERATORS:
                         self.assertIn(id(node), spots, f"row {node.lineno}")
+
+    def test_stars_in_calls(self):
+        # Behind a star stands a name, or an attribute of a name.
+        for path, tree in PARSED:
+            for node in ast.walk(tree):
+                if isinstance(node, ast.Call):
+                    for value in node.args:
+                        if isinstance(value, ast.Starred):
+                            self.assertIsInstance(value.value, (ast.Name, ast.Attribute), f"{path.name} {node.lineno}")
+                    self.assertFalse([word for word in node.keywords if word.arg is None])
+
+    def test_generator_expressions(self):
+        # They stand in a builtin that iterates them at once, beside names and literals only.
+        for path, tree in PARSED:
+            with self.subTest(path.name):
+                every = {id(node) for node in ast.walk(tree) if isinstance(node, ast.GeneratorExp)}
+                for node in ast.walk(tree):
+                    if isinstance(node, ast.Call) and called_name(node) in GENERATING:
+                        for value in node.args:
+                            if isinstance(value, ast.GeneratorExp):
+                                every.discard(id(value))
+                                others = [other for other in node.args if other is not value]
+                                others += [word.value for word in node.keywords]
+                                self.assertTrue(all(isinstance(other, (ast.Name, ast.Constant, ast.Lambda))
+                                                    for other in others))
+                self.assertEqual(every, set())
+
+    def test_keywords_of_builtins(self):
+        for path, tree in PARSED:
+            own = {name for _, other in PARSED for name in defined_in(other)} | OWN_METHODS
+            for node in ast.walk(tree):
+                if isinstance(node, ast.Call) and called_name(node) not in own:
+                    for word in node.keywords:
+                        self.assertIn(word.arg, KEYWORDS.get(called_name(node), ()), f"{path.name} {node.lineno}")
+
+    def test_how_many_are_combined(self):
+        # The number is a parameter, a literal, or a name over a range.
+        for path, tree in PARSED:
+            for function in functions_in(tree):
+                plain = {argument.arg for argument in ast.walk(function) if isinstance(argument, ast.arg)}
+                plain |= {node.target.id for node in ast.walk(function)
+                          if isinstance(node, (ast.For, ast.comprehension)) and isinstance(node.target, ast.Name)
+                          and isinstance(node.iter, ast.Call) and called_name(node.iter) == "range"}
+                for node in ast.walk(function):
+                    if isinstance(node, ast.Call) and called_name(node) in ("combinations", "permutations"):
+                        for value in node.args[1:]:
+                            if not isinstance(value, ast.Constant):
+                                self.assertIn(getattr(value, "id", None), plain, f"{path.name} {node.lineno}")
 
     def test_a_loop_does_not_change_what_it_goes_over(self):
         for path, tree in PARSED:
