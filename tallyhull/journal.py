@@ -89,9 +89,10 @@ def resume(text):
     rows = text.split("\n")[:-1]
     journal = Journal()
     for at, row in enumerate(rows):
-        if at % 2 == 1:
-            if row != f"{ANSWER}{journal.answer(rows[at - 1][2:])}":
-                raise BadJournal(at)
-        else:
+        if at % 2 == 0:
             check_line(row, at)
+        else:
+            told = journal.answer(rows[at - 1][len(LINE):])
+            if row != f"{ANSWER}{told}":
+                raise BadJournal(at)
     return journal
