@@ -79,14 +79,23 @@ def is_clear(moves, box):
     return not any(all(head[k] <= u[k] for k in bound) for head, _ in moves)
 
 
-def marks_at(moves, boxes, k, entry):
+def marks_of(moves, boxes, k, top):
     """Return which moves may stand, and which boxes have vectors, with an entry at a column.
 
-    Both are told by the bits of a number.
+    Both are told by the bits of a number, for each entry up to the top; like ones are told once.
     """
-    standing = sum(1 << at for at, (head, _) in enumerate(moves) if head[k] <= entry)
-    around = sum(1 << at for at, (u, free) in enumerate(boxes) if k in free or u[k] == entry)
-    return standing, around
+    around = {}
+    always = 0
+    for at, (u, free) in enumerate(boxes):
+        if k in free:
+            always = always | (1 << at)
+        else:
+            around[u[k]] = around.get(u[k], 0) | (1 << at)
+    found = {}
+    for entry in range(top + 1):
+        standing = sum(1 << at for at, (head, _) in enumerate(moves) if head[k] <= entry)
+        found[standing, always | around.get(entry, 0)] = True
+    return list(found)
 
 
 def covers_all(moves, boxes, many):
@@ -94,7 +103,7 @@ def covers_all(moves, boxes, many):
     # Vectors with the same moves and boxes up to a column go on alike.
     layer = {((1 << len(moves)) - 1, (1 << len(boxes)) - 1): True}
     for k, top in enumerate(tops_of(moves, boxes, many)):
-        told = {marks_at(moves, boxes, k, entry): True for entry in range(top + 1)}
+        told = marks_of(moves, boxes, k, top)
         layer = {(standing & more, around & others): True
                  for standing, around in layer for more, others in told}
     return (0, 0) not in layer
