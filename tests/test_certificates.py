@@ -281,7 +281,7 @@ class Simple(unittest.TestCase):
         self.assertEqual(cone_shown(GAPPED, (1, 2), ("in", good)), "in")
         for wrong in [((2, 6), (0, 1), (2, 3)), ((1, 3), (0, 2), (2, 3)), ((-1, -3), (0, 1), (2, 3)),
                       ((1, 3), (0, 1)), ((1, 3), (0, 1), (2, 3), (0, 1)), ((1, 3), 0, (2, 3)),
-                      ((1, 3), (0, 1), (2, 3, 1)), ((1, 0), (0, 1), (2, 3)), ((1, 2), (-1, 2), (1, 1))]:
+                      ((1, 3), (0, 1), (2, 3, 1)), ((1, 0), (0, 1), (2, 3)), ((1, 1), (-1, 1), (1, 1))]:
             self.assertEqual(cone_shown(GAPPED, (1, 2), ("in", wrong)), "none")
         # Matrices that are not pointed are taken, too.
         self.assertEqual(cone_shown(((1, -2),), (-3,), ("in", ((1, 1), (2, 1)))), "in")
@@ -329,6 +329,11 @@ class Lists(unittest.TestCase):
                 self.assertIs(found, graver_by_hand(matrix, vectors), (matrix, vectors))
                 told[found] += 1
         self.assertGreater(min(told.values()), 40)
+
+    def test_vectors_that_are_no_dependences(self):
+        for vectors in [[(0, 0, 0)], [(1, -2, 1), (0, 0, 0)], [(1, -2, 1), (1, 0, 0)], [(1, -2, 1), (1, -2)],
+                        [(1, -2, 1), (1, -2, 1, 0)], [(1, -2, True)], [(1, -2, 1), None], [], (), ((1, -2, 1),)]:
+            self.assertIs(graver_shown(SHORT, vectors), False)
 
     def test_matrices_with_rings(self):
         # [43] speaks of any matrix.
@@ -440,6 +445,11 @@ class Papers(unittest.TestCase):
                 ((weight, vectors, moves + [((2, 0, 2), (0, 4, 0))], found), True),
                 ((weight, vectors, [((2, 0, 2), (0, 4, 0))], found), False),
                 ((weight, vectors, moves, found[:1]), False), ((weight, vectors, moves, []), False),
+                ((weight, vectors, [], [((0, 0, 0), (0, 1, 2))]), False), ((weight, [], moves, found), False),
+                ((weight, vectors, moves + [((1, 1, 1), (0, 3, 0))], found), False),
+                ((weight, vectors, moves + [((1, 0, 3), (0, 2, 2))], found), False),
+                ((weight, vectors, moves + [((0, 0, 0), (0, 0, 0))], found), False),
+                ((weight, vectors + [(0, 0, 0)], moves, found), False),
                 ((weight, vectors, moves, found + [((0, 0, 0), (0, 1, 2))]), False),
                 ((weight, vectors, moves, found + [((0, 7, 0), (0,))]), True),
                 ((weight, vectors, moves, [((0, 0, 0), (0, 1)), ((0, 0, 0), ()), ((0, 0, 1), (1,)),
@@ -447,6 +457,15 @@ class Papers(unittest.TestCase):
                 ((weight, vectors, moves, [((0, 0, 0), (0, 1)), ((0, 1, 0), (2,)), ((0, 0, 0), (1, 2))]), True)]:
             with self.subTest(papers=papers):
                 self.assertIs(papers_shown(SHORT, LAST, papers), told)
+
+    def test_a_move_to_a_later_vector(self):
+        # Its head is no first solution, but it leads to one that comes behind it.
+        ones, cost = ((1, 1, 1),), (0, 0, 0)
+        weight, vectors, moves, found = papers_of(ones, cost)
+        self.assertIs(papers_shown(ones, cost, (weight, vectors, moves, found)), True)
+        self.assertNotIn(((1, 0, 0), (0, 1, 0)), moves)
+        self.assertIs(papers_shown(ones, cost, (weight, vectors, moves + [((1, 0, 0), (0, 1, 0))], found)), True)
+        self.assertIs(papers_shown(ones, cost, (weight, vectors, moves + [((0, 1, 0), (1, 0, 0))], found)), False)
 
     def test_boxes_behind_all_entries(self):
         # The boxes have all first vectors with entries up to theirs, but not one that is 1 more.
@@ -633,6 +652,12 @@ class Losses(unittest.TestCase):
             self.assertIs(optimum_shown(SHORT, LAST, (0, 0), (zeros, row)), True)
         for row in (((1, 1), (0, 1)), ((-1, 1), (1, 1)), ((0, 1),), ((0, 2), (0, 1)), ((0, 1), (0, 1), (0, 1))):
             self.assertIs(optimum_shown(SHORT, LAST, (0, 0), (zeros, row)), row == ((-1, 1), (1, 1)))
+        # The same sums with a fraction below 0, and by it a lesser price.
+        row = ((0, 1), (1, 1))
+        self.assertIs(optimum_shown(GAPPED, (0, 2, 3), (1, 2), (((1, 3), (0, 1), (2, 3)), row)), True)
+        self.assertIs(optimum_shown(GAPPED, (0, 1, 3), (1, 2), (((1, 1), (-1, 1), (1, 1)), row)), False)
+        self.assertIs(optimum_shown(GAPPED, (0, 2, 3), (1, 2), (((1, 1), (-1, 1), (1, 1)), row)), False)
+        self.assertIs(optimum_shown(GAPPED, (1, 1, 3), (1, 2), (((1, 1), (-1, 1), (1, 1)), row)), False)
 
     def test_loss_papers(self):
         told = {"right": 0, "none": 0, "large": 0}
@@ -676,8 +701,10 @@ class Losses(unittest.TestCase):
         above, below = 4 + 3 * 10 ** 9, 3
         paper = (((0, 1), (above, below)), ((1, 3),))
         self.assertEqual(loss_shown(coins, cost, papers, (number, far, pairs), paper), (2, 3))
-        self.assertIsNone(loss_shown(coins, cost, papers, (number, (3, 0), pairs),
-                                     optimum_paper(coins, cost, (6,))))
+        # (3, 0) costs 1 more than fractions, and no box loses more; but it is not the first solution.
+        for lost in (number, (1, 1)):
+            self.assertIsNone(loss_shown(coins, cost, papers, (lost, (3, 0), pairs),
+                                         optimum_paper(coins, cost, (6,))))
 
     def test_boxes_of_a_loss_paper(self):
         coins, cost = ((2, 3),), (1, 1)
