@@ -56,14 +56,10 @@ def class_vectors(matrix, cost, cell):
 
 def times_for(chosen, gauges, side):
     """Return how often independent columns are taken to make a side, any integers, or None."""
-    times = []
+    # A row is 0 at all columns but its own: it tells how often that one is taken.
+    times = [dot(row, side) // size for row, size in gauges]
     left = side
-    for column, (row, size) in zip(chosen, gauges):
-        # The row is 0 at all other columns, so it does not matter that some are taken away.
-        number, rest = divmod(dot(row, side), size)
-        if rest != 0:
-            return None
-        times.append(number)
+    for number, column in zip(times, chosen):
         left = less(left, number, column)
     return None if any(left) else times
 

@@ -22,14 +22,15 @@ from tests.test_staircases import RINGS
 FEW = PLAIN + SOLID[:3]
 NUMBERS = (solved_numbers, inner_numbers, hole_numbers)
 TOPS = (solved_top, inner_top, hole_top)
-# Three pairs of coins, 3, 4 and 5 the lesser ones: 60 low sides. And two pairs: 64.
+# Three pairs of coins, 3, 4 and 5 the lesser ones: 60 low sides. Two pairs: 64. And one with 61.
 SIXTY = ((3, 4, 0, 0, 0, 0), (0, 0, 4, 5, 0, 0), (0, 0, 0, 0, 5, 6)), (1, 1, 1)
 MORE = ((8, 9, 0, 0), (0, 0, 8, 9)), (1, 1)
+ONE_MORE = ((-1, 2, 3, 2), (9, 5, 5, 5), (3, 1, 5, 7)), (1, 1, 0)
 # The longest list of the matrix with one column more has 399 vectors, and 403.
 LONG = ((3, 3, -1, 2, 6), (1, 0, 3, 2, -1)), (4, 7)
 TOO_LONG = ((1, 9, -1, 2, 0), (0, 2, 6, 4, 7)), (3, 1)
-# The cost of zeros has 38 corners, and 41.
-CORNERS = ((1, 3, 6, 5, 9), (3, 0, 2, 5, 4)), (1, 0)
+# The cost of zeros has 40 corners, and 41.
+CORNERS = ((-1, 0, 3, -1, 4), (5, 3, 5, 4, 4)), (3, 2)
 MANY_CORNERS = ((4, 2, 8, 2, 4), (1, 8, 3, 6, 2)), (1, 1)
 
 
@@ -294,9 +295,10 @@ class Limits(unittest.TestCase):
 
     def test_inner_sides_and_holes(self):
         functions = (inner_top, hole_top, inner_numbers, hole_numbers)
-        self.assertEqual((len(low_sides(SIXTY[0])), len(low_sides(MORE[0]))), (60, 64))
+        self.assertEqual([len(low_sides(told[0])) for told in (SIXTY, MORE, ONE_MORE)], [60, 64, 61])
         self.check_large(functions[:2], *SIXTY, False)
         self.check_large(functions, *MORE, True)
+        self.check_large(functions, *ONE_MORE, True)
         self.check_large(functions[:2], *LONG, False)
         self.check_large(functions, *TOO_LONG, True)
         self.check_large(functions, WIDE, (1,), True)

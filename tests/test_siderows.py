@@ -30,7 +30,9 @@ BOUNDS = [
     (1995, ((1, 7, 7), (9, 1, 6)), (-2, -2, -3), (8, 9)),
     (2040, ((2, 8, 7, 1), (4, 3, 9, 7)), (3, 5, 5, 4), (7, 8)),
     (1980, ((0, -2, 9, 5, 3), (9, 2, 2, 6, 2)), (-3, 1, -2, -5, 3), (4, 1)),
-    (2016, ((9, 8, 3, 8), (6, 3, 3, -1)), (-5, -5, 1, 0), (2, 5))]
+    (2016, ((9, 8, 3, 8), (6, 3, 3, -1)), (-5, -5, 1, 0), (2, 5)),
+    (6, ((8, 0, 0), (0, 9, 0), (0, 0, 7)), (0, 0, 0), (4, 3, 7)),
+    (1995, ((1, 7, 7), (9, 1, 6), (0, 0, 0)), (-2, -2, -3), (0, 0, 1))]
 
 
 def along(start, step, k):
@@ -335,6 +337,11 @@ class Limits(unittest.TestCase):
         self.check_limit(((2,),), (1,), (6000,), (-2,), True)
         self.check_limit(((2,),), (1,), (2999,), (-1,), False)
         self.check_limit(((2,),), (1,), (3001,), (-1,), True)
+        # From 3002 to 3003 none leaves the rest that is wanted: the box has no time at all.
+        cross = ((1, 0), (0, 5))
+        self.check_limit(cross, (1, 1), (-3002, 6007), (1, -2), False)
+        self.assertEqual(row_law(cross, (1, 1), (-3002, 6007), (1, -2)), (0, 1, (None,)))
+        self.check_limit(cross, (1, 1), (-3001, 6007), (1, -2), True)
         # One time alone.
         thin = ((1,), (0,))
         self.check_limit(thin, (1,), (0, 2999), (0, -1), False)
